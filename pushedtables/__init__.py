@@ -1,0 +1,1 @@
+"""Tables that are pushed together: promises of tables, and who sits where."""
