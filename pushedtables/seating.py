@@ -1,4 +1,4 @@
-"""Seatings: whether all who want a block can be given one.
+"""Seatings: whether all who want a block can be given one, which one each is told, and who is left out if not.
 
 A want is for one of some choices, from its start on, up to its end (without that very minute). A choice, like
 whatever is given away, is told by the bits of its tables.
@@ -37,6 +37,25 @@ def can_all_be_given(wants):
         if can_all_be_given(wants_beside(ordered[1:], want.start, want.end, tables)):
             return True
     return False
+
+
+def first_choice(want, rest):
+    for tables in want.choices:
+        if can_all_be_given(wants_beside(rest, want.start, want.end, tables)):
+            return tables
+    return None
+
+
+def seating_told(wants):
+    # Only for wants that can all be given: each choice leaves the rest such, so none comes to nothing.
+    given = []
+    left = wants
+    while left:
+        want = left[0]
+        tables = first_choice(want, left[1:])
+        given.append(tables)
+        left = wants_beside(left[1:], want.start, want.end, tables)
+    return given
 
 
 def lists_of_places(count):

@@ -41,6 +41,25 @@ def passing(minutes):
     return [7, minutes]
 
 
+PLAN = [8]
+TROUBLE = [10]
+TELLOFF = [11]
+TABLES = [13]
+STATE = [15]
+
+
+def quote(size, minutes):
+    return [9, size, minutes]
+
+
+def free(size):
+    return [12, size]
+
+
+def party(number):
+    return [14, number]
+
+
 def flat(calls):
     return [number for call in calls for number in call]
 
@@ -78,3 +97,8 @@ def told(*calls):
 def last(*calls):
     """The answer to the last of the calls."""
     return told(*calls)[-1]
+
+
+def sight(parties):
+    """Calls that together tell all that can be seen of a house with so many parties, but for who is promised what."""
+    return [STATE, TABLES, PLAN] + [party(number) for number in range(1, parties + 1)]

@@ -93,20 +93,32 @@ class PlainHouse:
         assert bool(found) == bool(tight), "somebody is turned away for want of a tight block alone"
         return min(tight, key=lambda block: (self.seats(block), block), default=None)
 
-    def fewest_in_trouble(self):
+    def number_of(self, party):
+        return self.parties.index(party) + 1
+
+    def lists_in_trouble(self):
+        """All lists of promised parties, as few as will do, without whom the others' promises can be kept."""
         promised = self.promised()
-        best = len(promised)
+        taken = self.used()
+        found = {}
         for chosen in range(2 ** len(promised)):
-            left_out = bin(chosen).count("1")
             rest = [party for place, party in enumerate(promised) if not chosen >> place & 1]
-            if left_out < best and self.seating_is_there(rest, self.used()):
-                best = left_out
-        return best
+            numbers = [self.number_of(party) for party in promised if party not in rest]
+            if len(numbers) <= min(found, default=len(promised)) and self.seating_is_there(rest, taken):
+                found.setdefault(len(numbers), []).append(numbers)
+        return found[min(found)]
+
+    def in_trouble(self):
+        return min(self.lists_in_trouble())
 
     def answer(self, call):
-        """The answer to a call whose numbers are all in their ranges."""
-        answerers = (None, self.book, self.cancel, self.arrive, self.walkin, self.leave, self.stay, self.passing)
+        """The answer to a call whose numbers are all in their ranges, on the house that is open."""
+        answerers = (self.opening, self.book, self.cancel, self.arrive, self.walkin, self.leave, self.stay, self.passing,
+                     self.plan, self.quote, self.trouble, self.telloff, self.free, self.tables, self.party, self.state)
         return answerers[call[0]](*call[1:])
+
+    def opening(self, *numbers):
+        return [-3]
 
     def refusal(self, number, stage):
         if number > len(self.parties):
@@ -167,7 +179,7 @@ class PlainHouse:
         if self.refusal(number, 1):
             return self.refusal(number, 1)
         self.parties[number - 1].time_to += minutes
-        return [0, self.fewest_in_trouble()]
+        return [0, len(self.in_trouble())]
 
     def passing(self, minutes):
         if self.now + minutes > 100000:
@@ -179,3 +191,84 @@ class PlainHouse:
             if party.time_to <= self.now and party.stage == 0:
                 party.stage = 4
         return [0, self.now]
+
+    def plan(self):
+        if not self.all_can_be_kept():
+            return [-11]
+        left = sorted(self.promised(), key=lambda party: (party.time_from, self.number_of(party)))
+        taken = self.used()
+        told = [0, len(left)]
+        while left:
+            party = left.pop(0)
+            block = min(block for block in self.blocks if self.can_be_told(party, block, left, taken))
+            taken = taken | self.cells(block, max(party.time_from, self.now), party.time_to)
+            told += [self.number_of(party), *block]
+        return told
+
+    def can_be_told(self, party, block, rest, taken):
+        own = self.cells(block, max(party.time_from, self.now), party.time_to)
+        return self.is_tight(block, party.size) and not own & taken and self.seating_is_there(rest, taken | own)
+
+    def quote(self, size, minutes):
+        if len(self.parties) == 60 or len(self.promised()) == 5:
+            return [-4]
+        # At the last of these nobody uses or wants a table any more, and every later minute is like it.
+        ends = [party.time_to + self.clearing for party in self.parties if party.stage in (0, 1, 2)]
+        for minute in range(self.now, min(100000, max([self.now] + ends)) + 1):
+            self.parties.append(PlainParty(size, minute, minute + minutes, 0))
+            found = self.all_can_be_kept()
+            self.parties.pop()
+            if found:
+                return [0, 1, minute]
+        return [0, 0]
+
+    def trouble(self):
+        numbers = self.in_trouble()
+        return [0, len(numbers)] + numbers
+
+    def telloff(self):
+        told = self.trouble()
+        for number in told[2:]:
+            self.parties[number - 1].stage = 5
+        return told
+
+    def free(self, size):
+        used = {(row, table) for row, table, minute in self.used() if minute == self.now}
+        found = []
+        for row, first, last in self.blocks:
+            tables = {(row, table) for table in range(first, last + 1)}
+            if self.is_tight((row, first, last), size) and not tables & used:
+                found += [row, first, last]
+        return [0, len(found) // 3] + found
+
+    def tables(self):
+        told = [0]
+        for row in range(1, len(self.rows) + 1):
+            for table in range(1, len(self.rows[row - 1]) + 1):
+                told += self.use_of(row, table)
+        return told
+
+    def use_of(self, row, table):
+        for party in self.parties:
+            if party.block is not None:
+                own = self.cells(party.block, party.time_from, party.time_to)
+                if (row, table, self.now) in own:
+                    free_from = self.now
+                    while (row, table, free_from) in own:
+                        free_from += 1
+                    return [self.number_of(party), free_from]
+        return [0, 0]
+
+    def party(self, number):
+        if number > len(self.parties):
+            return [-7]
+        party = self.parties[number - 1]
+        return [0, party.size, party.time_from, party.time_to, party.stage, *(party.block or (0, 0, 0))]
+
+    def state(self):
+        stages = [party.stage for party in self.parties]
+        told = [0, self.now, len(stages), stages.count(0), stages.count(1), int(self.all_can_be_kept())]
+        told += [self.loss, self.clearing]
+        for row in self.rows:
+            told += [len(row), *row]
+        return told

@@ -3,14 +3,20 @@
 import builtins
 import contextlib
 import io
+import pathlib
+import re
 import unittest
 from unittest import mock
 
 from lines import flat, opening, passing, told, walkin
 from pushedtables.house import answers
 
-LINE = flat([opening(1, 10, [4, 2], [], [6]), [1, 6, 20, 30], [4, 3, 10], [3, 1], [6, 2, 5], [5, 2], [2, 1], [7, 9]])
-ANSWERED = [1, 0, 2, 0, 1, 5, 0, 2, 1, 1, 1, 4, 0, 3, 1, 1, 2, 0, 0, 1, 0, 1, -8, 2, 0, 9]
+LINE = flat([opening(1, 10, [4, 2], [], [6]), [1, 6, 20, 30], [4, 3, 10], [3, 1], [6, 2, 5], [5, 2], [2, 1], [7, 9],
+             [1, 6, 80, 10], [8], [9, 6, 20], [6, 1, 40], [10], [8], [15], [11], [12, 2], [13], [14, 3], [14, 1], [15]])
+ANSWERED = [1, 0, 2, 0, 1, 5, 0, 2, 1, 1, 1, 4, 0, 3, 1, 1, 2, 0, 0, 1, 0, 1, -8, 2, 0, 9,
+            2, 0, 3, 6, 0, 1, 3, 3, 1, 1, 3, 0, 1, 100, 2, 0, 1, 3, 0, 1, 3, 1, -11,
+            14, 0, 9, 3, 1, 1, 0, 1, 10, 2, 4, 2, 0, 1, 6, 3, 0, 1, 3, 5, 0, 1, 1, 2, 2, 7, 0, 2, 10, 0, 0, 1, 100,
+            8, 0, 6, 80, 90, 5, 0, 0, 0, 8, 0, 6, 0, 90, 1, 3, 1, 1, 14, 0, 9, 3, 0, 1, 1, 1, 10, 2, 4, 2, 0, 1, 6]
 
 
 class WatchedList(list):
@@ -33,6 +39,11 @@ class Interface(unittest.TestCase):
     def test_how_answers_lie_in_the_list(self):
         self.assertEqual(answers(LINE), ANSWERED)
 
+    def test_the_calls_without_numbers(self):
+        self.assertEqual(answers([0, 0, 0, 1, 4, 0, 0, 8, 10, 11, 13, 15, 8, 9, 4, 1, 12, 4, 14, 1, 15]),
+                         [1, 0, 2, 0, 0, 2, 0, 0, 2, 0, 0, 3, 0, 0, 0, 12, 0, 0, 0, 0, 0, 1, 0, 0, 1, 4, 0, 0, 2, 0, 0,
+                          3, 0, 1, 0, 5, 0, 1, 1, 1, 1, 1, -7, 12, 0, 0, 0, 0, 0, 1, 0, 0, 1, 4, 0, 0])
+
     def test_how_calls_lie_in_the_list(self):
         self.assertEqual(answers([7, 1]), [1, -2])
         self.assertEqual(answers([0, 0, 0, 1, 4, 0, 0]), [1, 0])
@@ -42,6 +53,12 @@ class Interface(unittest.TestCase):
         # Rows of 100 numbers that look like calls, and a call right behind them.
         row = [7] * 100
         self.assertEqual(told(opening(0, 0, row, row, row), passing(1), opening(0, 0, [4]), passing(7)), [[-1], [-2], [0], [0, 7]])
+
+    def test_the_example_in_the_readme(self):
+        text = (pathlib.Path(__file__).parent.parent / "README.md").read_text()
+        calls, told_there = re.search(r"\nanswers\(\[\n(.*?)\]\)\n# \[(.*?)\]", text, re.DOTALL).groups()
+        line = [int(number) for number in re.findall(r"-?\d+", re.sub(r"#.*", "", calls))]
+        self.assertEqual(answers(line), [int(number) for number in re.findall(r"-?\d+", told_there)])
 
     def test_the_list_is_whole_numbers_in_a_list(self):
         given = answers(LINE)

@@ -112,6 +112,19 @@ class Language(unittest.TestCase):
             if isinstance(node.func, ast.Attribute):
                 self.assertIn(node.func.attr, METHODS + tuple(methods), (name, node.lineno))
 
+    def test_sets_are_not_kept(self):
+        inside = [part for name, node in nodes(ast.Call) if isinstance(node.func, ast.Name) and node.func.id in ("sorted", "len")
+                  for part in node.args]
+        at_once = [ast.unparse(part) for part in inside]
+        for name, node in nodes(ast.Call):
+            if isinstance(node.func, ast.Name) and node.func.id in ("set", "frozenset"):
+                self.assertIn(ast.unparse(node), at_once, (name, node.lineno))
+
+    def test_what_is_walked_is_walked_at_once(self):
+        for name, node in nodes(ast.Assign):
+            if isinstance(node.value, ast.Call) and isinstance(node.value.func, ast.Name):
+                self.assertNotIn(node.value.func.id, ("zip", "enumerate", "reversed", "range"), (name, node.lineno))
+
     def test_the_top_of_a_module(self):
         for path in FILES:
             body = ast.parse(path.read_text()).body

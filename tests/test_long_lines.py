@@ -1,14 +1,16 @@
-"""The longest lines: 400 calls, 8 tables, 5 promised parties, 60 stays, 16000 numbers."""
+"""The longest lines: 400 calls of all kinds, 8 tables, 5 promised parties, 60 searching calls, 16000 numbers."""
 
 import random
 import unittest
 
-from lines import GREATEST, LEAST, arrive, book, cancel, flat, leave, opening, passing, stay, told, walkin
+from lines import (GREATEST, LEAST, PLAN, STATE, TABLES, TELLOFF, TROUBLE, arrive, book, cancel, flat, free, leave, opening,
+                   party, passing, quote, stay, told, walkin)
 from plain_search import PlainHouse
+from random_lines import COUNTED
 
 
 def crowded_line(seed):
-    """400 calls on 8 tables: the house is kept at five promised ones, and 60 of the calls are stays."""
+    """400 calls on 8 tables: the house is kept at five promised ones, and 60 of the calls are counted ones."""
     chance = random.Random(seed)
     seats = [chance.randint(1, 6) for number in range(8)]
     rows = ([seats, [], []], [seats[:4], seats[4:], []], [seats[:3], seats[3:6], seats[6:]])[seed % 3]
@@ -16,9 +18,9 @@ def crowded_line(seed):
     house = PlainHouse(loss, 3, rows)
     calls = [opening(loss, 3, *rows)]
     expected = [[0]]
-    stay_places = sorted(chance.sample(range(20, 400), 60))
+    counted_places = sorted(chance.sample(range(20, 400), 60))
     while len(calls) < 400:
-        call = next_call(chance, house, len(calls) in stay_places)
+        call = counted_call(chance, house) if len(calls) in counted_places else next_call(chance, house)
         calls.append(call)
         expected.append(house.answer(call))
     return calls, expected
@@ -28,29 +30,39 @@ def numbers_of(house, stage):
     return [number for number, party in enumerate(house.parties, start=1) if party.stage == stage] or [60]
 
 
-def next_call(chance, house, stays):
+def counted_call(chance, house):
+    kind = chance.randrange(10)
+    if kind < 4:
+        return stay(chance.choice(numbers_of(house, 1)), chance.randint(1, 8))
+    if kind < 7:
+        return quote(chance.randint(1, 9), chance.randint(1, 12))
+    return TELLOFF if kind == 9 else TROUBLE
+
+
+def next_call(chance, house):
     size = chance.randint(1, 9)
-    if stays:
-        return stay(chance.choice(numbers_of(house, 1)), chance.randint(1, 4))
-    if len(house.promised()) < 5 and chance.random() < 0.7:
+    if len(house.promised()) < 5 and len(house.parties) < 60 and chance.random() < 0.5:
         return book(size, house.now + chance.randint(0, 12), chance.randint(3, 12))
-    kind = chance.randrange(12)
+    kind = chance.randrange(30)
     if kind < 4:
         return arrive(chance.choice(numbers_of(house, 0)))
     if kind < 8:
         return walkin(size, chance.randint(1, 12))
-    if kind == 8:
+    if kind < 10:
         return leave(chance.choice(numbers_of(house, 1)))
-    if kind == 9:
-        return cancel(chance.choice(numbers_of(house, 0)))
-    return passing(chance.randint(1, 3))
+    if kind < 13:
+        return passing(chance.randint(1, 3))
+    looks = (PLAN, PLAN, free(size), free(size), TABLES, STATE, party(chance.randint(1, 60)),
+             cancel(chance.choice(numbers_of(house, 0))), opening(0, 0, [1]))
+    return chance.choice(looks)
 
 
 class LongLines(unittest.TestCase):
     def test_crowded_lines_of_400_calls(self):
         for seed in range(6):
             calls, expected = crowded_line(seed)
-            self.assertEqual(sum(call[0] == 6 for call in calls), 60)
+            self.assertEqual(sum(call[0] in COUNTED for call in calls), 60)
+            self.assertEqual({call[0] for call in calls}, set(range(16)))
             self.assertEqual(told(*calls), expected, seed)
 
     def test_everybody_is_refused_over_and_over(self):

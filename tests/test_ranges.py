@@ -2,7 +2,7 @@
 
 import unittest
 
-from lines import GREATEST, LEAST, book, last, opening, passing, told, walkin
+from lines import GREATEST, LEAST, book, last, opening, party, passing, quote, sight, stay, told, walkin
 
 SIZE = (1, 80)
 MINUTES = (1, 600)
@@ -17,9 +17,18 @@ RANGES = {
     "leave": ([5, 1], (PARTY,)),
     "stay": ([6, 1, 10], (PARTY, MINUTES)),
     "pass": ([7, 10], ((1, 1000),)),
+    "plan": ([8], ()),
+    "quote": ([9, 2, 10], (SIZE, MINUTES)),
+    "trouble": ([10], ()),
+    "telloff": ([11], ()),
+    "free": ([12, 2], (SIZE,)),
+    "tables": ([13], ()),
+    "party": ([14, 1], (PARTY,)),
+    "state": ([15], ()),
 }
 OPENING_RANGES = ((0, 3), (0, 60))
 HOUSE = opening(1, 10, [4, 4], [2])
+BEFORE = [book(6, 40, 20), walkin(2, 20), book(2, 60, 10), stay(2, 50)]
 
 
 def changed(call, place, number):
@@ -40,6 +49,9 @@ class Ranges(unittest.TestCase):
                 with self.subTest(call=name, place=place, number=number):
                     wrong = changed(call, place, number)
                     self.assertEqual(told(HOUSE, wrong, passing(3)), [[0], [-1], [0, 3]])
+                    given = told(HOUSE, *BEFORE, *sight(3), wrong, *sight(3))
+                    self.assertEqual(given[11], [-1])
+                    self.assertEqual(given[5:11], given[12:])
 
     def test_the_ends_are_inside(self):
         for name, call, place, limits in cases():
@@ -52,6 +64,16 @@ class Ranges(unittest.TestCase):
             with self.subTest(call=name):
                 self.assertEqual(told(call, HOUSE, passing(3)), [[-2], [0], [0, 3]])
 
+    def test_every_call_has_its_row_here(self):
+        self.assertEqual(sorted(call[0] for call, ranges in RANGES.values()), list(range(1, 16)))
+        for name, (call, ranges) in RANGES.items():
+            self.assertEqual(len(call), 1 + len(ranges), name)
+
+    def test_without_a_house_after_a_refused_opening(self):
+        for name, (call, ranges) in RANGES.items():
+            with self.subTest(call=name):
+                self.assertEqual(told(opening(0, 0, []), call, opening(4, 0, [1]), call), [[-5], [-2], [-1], [-2]])
+
     def test_the_range_is_told_ahead_of_the_missing_house(self):
         for name, call, place, (least, greatest) in cases():
             for number in (least - 1, greatest + 1):
@@ -63,6 +85,8 @@ class Ranges(unittest.TestCase):
         self.assertEqual(last(HOUSE, [2, 61]), [-1])
         self.assertEqual(last(HOUSE, [6, 60, 601]), [-1])
         self.assertEqual(last(HOUSE, walkin(80, 0)), [-1])
+        self.assertEqual(last(HOUSE, party(61)), [-1])
+        self.assertEqual(last(HOUSE, *[book(1, 20 * number, 10) for number in range(5)], quote(0, 10)), [-1])
         self.assertEqual(last(HOUSE, *[passing(1000)] * 100, passing(1001)), [-1])
         self.assertEqual(last(HOUSE, opening(4, 0, [2])), [-1])
         self.assertEqual(last(HOUSE, opening(0, 0, [])), [-3])
