@@ -129,7 +129,7 @@ def pass_time(house, call):
 
 
 def plan(house, call):
-    parties = house.in_order_of_time(house.promised())
+    parties = house.promised_by_time()
     if not house.can_keep(parties):
         return [-11]
     told = [0, len(parties)]

@@ -56,6 +56,10 @@ class House:
     def promised(self):
         return self.at_stage(PROMISED)
 
+    def promised_by_time(self):
+        # Sorting leaves those of one time in the order of their numbers.
+        return sorted(self.promised(), key=time_from_of)
+
     def party_to_promise(self, size, time_from, minutes):
         return Party(len(self.parties) + 1, size, time_from, time_from + minutes, PROMISED, None)
 
@@ -109,10 +113,6 @@ class House:
 
     def blocks_told(self, parties):
         return [self.block_with(tables) for tables in seating_told(self.wants_of(parties))]
-
-    def in_order_of_time(self, parties):
-        # Sorting leaves those of one time in the order of their numbers.
-        return sorted(parties, key=time_from_of)
 
     def minutes_to_try(self):
         # Who could begin at a minute could begin one sooner in the same seating, unless a table comes free at that very
